@@ -1,0 +1,1 @@
+"""notchledger: numbers kept on strips that can only be cut."""

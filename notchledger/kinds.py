@@ -1,0 +1,12 @@
+"""What kind of thing was handed in, whatever it is."""
+
+
+def is_number(thing):
+    """Whether the thing is an int and neither True nor False."""
+    # Python counts True and False among the ints; the document does not.
+    return isinstance(thing, int) and not isinstance(thing, bool)
+
+
+def is_between(thing, low, high):
+    """Whether the thing is a number from low to high."""
+    return is_number(thing) and low <= thing <= high

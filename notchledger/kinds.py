@@ -10,3 +10,8 @@ def is_number(thing):
 def is_between(thing, low, high):
     """Whether the thing is a number from low to high."""
     return is_number(thing) and low <= thing <= high
+
+
+def is_rising(row):
+    """Whether each thing in a list or tuple is greater than the one ahead of it."""
+    return all([row[at - 1] < row[at] for at in range(1, len(row))])

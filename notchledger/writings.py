@@ -27,6 +27,11 @@ def is_table(n, k, table):
     return all([thing is None or is_between(thing, 0, k - 1) for thing in table])
 
 
+def is_cuts(writing, thing):
+    """Whether the thing, whatever it is, is cuts of the writing's spots."""
+    return is_between(thing, 0, len(writing[2]) - 1)
+
+
 def reading(writing, cuts):
     """The number that the cuts read, or None."""
     table = writing[2]

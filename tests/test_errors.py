@@ -1,8 +1,10 @@
 """The interface's paragraph on errors."""
 
+import itertools
 import unittest
 
 from notchledger import errors
+from notchledger.askings import made_askings
 from notchledger.writings import made_writing
 
 NAMES = (
@@ -34,24 +36,35 @@ class Errors(unittest.TestCase):
                     self.assertEqual(taken, name == other)
 
 
-class RaisedNoWriting(unittest.TestCase):
-    def refusal(self, taken_as):
+# For each refusal that is raised so far, calls that raise it.
+RAISED = {
+    "NoWriting": [(made_writing, 0, 2, (0,))],
+    "NoAskings": [(made_askings, 2, ()), (made_askings, 1, ((), ())), (made_askings, 2, ((0,), (), ()))],
+}
+
+
+class Raised(unittest.TestCase):
+    def refusal(self, call, taken_as):
         try:
-            made_writing(0, 2, (0,))
+            call[0](*call[1:])
         except taken_as as error:
             return error
         self.fail("not refused")
 
-    def test_it_is_taken_as_each_above_it(self):
-        for taken_as in (errors.NoWriting, errors.NotchError, ValueError):
-            with self.subTest(taken_as):
-                self.assertEqual(type(self.refusal(taken_as)), errors.NoWriting)
+    def test_each_is_taken_as_those_above_it(self):
+        for name, calls in RAISED.items():
+            own = getattr(errors, name)
+            for call, taken_as in itertools.product(calls, (own, errors.NotchError, ValueError)):
+                with self.subTest(call=call, taken_as=taken_as):
+                    self.assertEqual(type(self.refusal(call, taken_as)), own)
 
-    def test_it_is_taken_by_none_of_the_others(self):
-        for name in NAMES[1:]:
-            with self.subTest(name):
-                with self.assertRaises(errors.NoWriting):
-                    self.refusal(getattr(errors, name))
+    def test_each_is_taken_by_none_of_the_others(self):
+        for name, calls in RAISED.items():
+            for call, other in itertools.product(calls, NAMES):
+                with self.subTest(call=call, other=other):
+                    if other != name:
+                        with self.assertRaises(getattr(errors, name)):
+                            self.refusal(call, getattr(errors, other))
 
 
 if __name__ == "__main__":

@@ -4,20 +4,7 @@ import unittest
 
 from notchledger.errors import NoWriting
 from notchledger.writings import made_writing, reading
-
-
-def deep(levels):
-    thing = ()
-    for level in range(levels):
-        thing = [thing] if level % 2 else (thing,)
-    return thing
-
-
-# None of these is a number, nor a table of one spot and two numbers.
-NO_NUMBERS = [
-    True, False, "", "1", "2", "x" * 4000, [], [1], [2], (), (1,), (2,), [None], (None,), (True, 1), deep(20),
-]
-FAR = [10 ** 59, -(10 ** 59)]
+from plain import FAR, NO_NUMBERS
 
 
 class Granted(unittest.TestCase):

@@ -4,34 +4,13 @@ import unittest
 
 from notchledger.cuts import holds
 from notchledger.writings import least_up, made_writing, nearest, numbers_read, reading, ways_up
+from plain import mixed, plain_ways, spots
 
 # Three spots: some cuts read nothing, 3 is read by none.
 GAPS = made_writing(3, 4, (None, 1, 1, 0, 2, None, 0, 1))
 EMPTY = made_writing(3, 4, (None,) * 8)
-
-
-def spots(cuts):
-    return {spot for spot in range(8) if cuts // 2 ** spot % 2 == 1}
-
-
-def mixed(n, k, seed):
-    """A writing with gaps, by a rule without a pattern along the spots."""
-    table = []
-    state = seed
-    for _ in range(2 ** n):
-        state = (state * 1103515245 + 12345) % 2 ** 31
-        worth = state // 65536 % (k + 1)
-        table.append(None if worth == k else worth)
-    return made_writing(n, k, tuple(table))
-
-
 MIXED = [GAPS, EMPTY] + [mixed(n, k, n * 31 + k) for n in range(1, 6) for k in (2, 3, 7)]
 LARGE = [mixed(8, k, k) for k in (2, 5, 100)]
-
-
-def plain_ways(writing, cuts, number):
-    table = writing[2]
-    return [up for up, read in enumerate(table) if read == number and spots(up) >= spots(cuts)]
 
 
 def plain_least(writing, cuts, number):

@@ -1,7 +1,11 @@
 """What several tests need: plain definitions of the document's points, things to hand in, bent papers."""
 
+import copy
+import unittest
 from functools import lru_cache
 
+from notchledger.askings import any_number, by_one, one_up
+from notchledger.errors import NoWriting
 from notchledger.writings import made_writing
 
 
@@ -173,3 +177,28 @@ def mixed_askings(k, seed):
         many = next(worths) % 4
         rows.append(tuple(other for other in range(k) if other != stands and next(worths) % 4 < many))
     return tuple(rows)
+
+
+def small_questions():
+    """Writings of up to three spots, askings for them, cuts and turns."""
+    for seed in range(40):
+        n, k = 1 + seed % 3, 2 + seed % 2
+        for askings in (any_number(k), by_one(k), one_up(k), mixed_askings(k, seed)):
+            for turns in range(n + 3):
+                yield mixed(n, k, seed), askings, seed % 2 ** n, turns
+                yield mixed(n, k, seed), askings, 0, turns
+
+
+class WritingCase(unittest.TestCase):
+    """For functions that tell a writing or refuse with NoWriting."""
+
+    def same(self, told, plain):
+        self.assertEqual(repr(told), repr(plain))
+        self.assertEqual(made_writing(*told), told)
+
+    def refused(self, ask, *given):
+        before = copy.deepcopy(given)
+        with self.assertRaises(NoWriting, msg=repr(given)[:300]) as caught:
+            ask(*given)
+        self.assertEqual(caught.exception.args, ())
+        self.assertEqual(repr(given), repr(before))

@@ -3,11 +3,11 @@
 import copy
 import unittest
 
-from notchledger.askings import any_number, around, by_one, one_up
+from notchledger.askings import any_number, around, one_up
 from notchledger.ends import right_end
 from notchledger.lasting import lasting
 from notchledger.writings import made_writing
-from plain import WHATEVER, bent, mixed, mixed_askings, plain_end, plain_lasts, sums
+from plain import WHATEVER, bent, plain_end, plain_lasts, small_questions, sums
 
 # Two numbers by turns: each further cut reads the other one, so all spots cut is the end.
 SWITCH = made_writing(2, 2, (0, 1, 1, 0))
@@ -184,13 +184,8 @@ class Bent(unittest.TestCase):
             self.assertFalse(plain and plain_lasts(writing, askings, cuts, turns))
 
     def test_small_writings(self):
-        for seed in range(40):
-            n, k = 1 + seed % 3, 2 + seed % 2
-            writing = mixed(n, k, seed)
-            for askings in (any_number(k), by_one(k), one_up(k), mixed_askings(k, seed)):
-                for turns in range(n + 3):
-                    self.check(writing, askings, seed % 2 ** n, turns)
-                    self.check(writing, askings, 0, turns)
+        for question in small_questions():
+            self.check(*question)
 
     def test_sums_of_weights(self):
         for writing in (sums([1, 2, 1], 3), sums([1, 2, 3], 4), sums([1, 1, 1], 2)):

@@ -5,6 +5,9 @@ import unittest
 
 from notchledger import errors
 from notchledger.askings import made_askings
+from notchledger.counting import spots_between
+from notchledger.joined import beside, fewer, later, padded, renamed
+from notchledger.made import copies, crossed, twice, unary, weighed
 from notchledger.writings import made_writing
 
 NAMES = (
@@ -36,9 +39,15 @@ class Errors(unittest.TestCase):
                     self.assertEqual(taken, name == other)
 
 
+SWITCH = made_writing(1, 2, (0, 1))
+EIGHT = made_writing(8, 2, (0, 1) * 128)
 # For each refusal that is raised so far, calls that raise it.
 RAISED = {
-    "NoWriting": [(made_writing, 0, 2, (0,))],
+    "NoWriting": [
+        (made_writing, 0, 2, (0,)), (weighed, [], 2), (crossed, [], 1), (unary, 9), (twice, 2), (copies, 2, 9),
+        (beside, EIGHT, SWITCH), (later, EIGHT, SWITCH), (fewer, SWITCH, 1), (padded, SWITCH, 8),
+        (renamed, SWITCH, [], []), (spots_between, 10, 1),
+    ],
     "NoAskings": [(made_askings, 2, ()), (made_askings, 1, ((), ())), (made_askings, 2, ((0,), (), ()))],
 }
 

@@ -7,7 +7,7 @@ from notchledger.askings import any_number, around, by_one, one_up
 from notchledger.lasting import lasting
 from notchledger.plans import right_plan
 from notchledger.writings import made_writing
-from plain import WHATEVER, bent, mixed, mixed_askings, plain_asked, plain_lasts, plain_plan, plain_ways, sums
+from plain import WHATEVER, bent, plain_asked, plain_lasts, plain_plan, plain_ways, small_questions, sums
 
 # Two numbers by turns: each further cut reads the other one.
 SWITCH = made_writing(3, 2, (0, 1, 1, 0, 1, 0, 0, 1))
@@ -180,13 +180,8 @@ class Bent(unittest.TestCase):
                 self.assertIs(right_plan(writing, askings, cuts, turns, more), False)
 
     def test_small_writings(self):
-        for seed in range(40):
-            n, k = 1 + seed % 3, 2 + seed % 2
-            writing = mixed(n, k, seed)
-            for askings in (any_number(k), by_one(k), one_up(k), mixed_askings(k, seed)):
-                for turns in range(n + 3):
-                    self.check(writing, askings, seed % 2 ** n, turns)
-                    self.check(writing, askings, 0, turns)
+        for question in small_questions():
+            self.check(*question)
 
     def test_sums_of_weights(self):
         for writing in (sums([1, 2, 1, 2], 3), sums([1, 2, 3], 4), sums([1, 1, 1, 1, 1], 2)):

@@ -1,6 +1,12 @@
 """Cuts: the cut spots of a strip, told as the sum of 2 to the power of each."""
 
 
+def all_cuts(n):
+    """All cuts of n spots, a rising list."""
+    # Spots below those of a strip are no error: then there is nothing to cut.
+    return list(range(1 << max(n, 0)))
+
+
 def spots_of(cuts):
     """The cut spots, a rising list."""
     spots = []

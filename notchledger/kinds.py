@@ -15,3 +15,8 @@ def is_between(thing, low, high):
 def is_rising(row):
     """Whether each thing in a list or tuple is greater than the one ahead of it."""
     return all([row[at - 1] < row[at] for at in range(1, len(row))])
+
+
+def is_paper(thing, word, length):
+    """Whether the thing is a tuple of this length that begins with the word."""
+    return isinstance(thing, tuple) and len(thing) == length and thing[0] == word

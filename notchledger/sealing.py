@@ -1,13 +1,13 @@
 """Sealed writings, and what the holder of one half could make of it."""
 
 from notchledger.cuts import holds
-from notchledger.writings import is_cuts, reading
+from notchledger.kinds import is_paper
+from notchledger.writings import cuts_that_read, reading, reads_number
 
 
 def sealing(writing):
     """("sealed",), or ("open", low, high) of two cuts that read numbers, high holding low."""
-    table = writing[2]
-    written = [cuts for cuts in range(len(table)) if table[cuts] is not None]
+    written = cuts_that_read(writing)
     for low in written:
         for high in written:
             if opens(low, high):
@@ -22,17 +22,10 @@ def opens(low, high):
 
 def right_open(writing, paper):
     """Whether the paper, whatever it is, shows two cuts by which the writing is not sealed."""
-    if not isinstance(paper, tuple) or len(paper) != 3:
+    if not is_paper(paper, "open", 3):
         return False
-    word, low, high = paper
-    if word != "open" or not reads_number(writing, low) or not reads_number(writing, high):
-        return False
-    return opens(low, high)
-
-
-def reads_number(writing, thing):
-    """Whether the thing, whatever it is, is cuts that read a number."""
-    return is_cuts(writing, thing) and reading(writing, thing) is not None
+    low, high = paper[1:]
+    return reads_number(writing, low) and reads_number(writing, high) and opens(low, high)
 
 
 def could_read(writing, cuts):

@@ -1,6 +1,6 @@
 """Writings, tuples (n, k, table), and the ways up to a number in them."""
 
-from notchledger.cuts import further, holds
+from notchledger.cuts import all_cuts, further, holds
 from notchledger.errors import NoWriting
 from notchledger.kinds import is_between
 
@@ -27,6 +27,12 @@ def is_table(n, k, table):
     return all([thing is None or is_between(thing, 0, k - 1) for thing in table])
 
 
+def in_order(n, some):
+    """The writing of n spots by which these cuts read 0, 1 and so on, all others nothing."""
+    readings = {cuts: number for number, cuts in enumerate(some)}
+    return (n, len(some), tuple([readings.get(cuts) for cuts in all_cuts(n)]))
+
+
 def is_cuts(writing, thing):
     """Whether the thing, whatever it is, is cuts of the writing's spots."""
     return is_between(thing, 0, len(writing[2]) - 1)
@@ -39,6 +45,17 @@ def reading(writing, cuts):
     if not 0 <= cuts < len(table):
         return None
     return table[cuts]
+
+
+def reads_number(writing, thing):
+    """Whether the thing, whatever it is, is cuts that read a number."""
+    return is_cuts(writing, thing) and reading(writing, thing) is not None
+
+
+def cuts_that_read(writing):
+    """All cuts that read a number, a rising list."""
+    table = writing[2]
+    return [cuts for cuts in range(len(table)) if table[cuts] is not None]
 
 
 def numbers_read(writing):

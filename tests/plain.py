@@ -1,6 +1,7 @@
 """What several tests need: plain definitions of the document's points, things to hand in, bent papers."""
 
 import copy
+import time
 import unittest
 from functools import lru_cache
 
@@ -24,6 +25,7 @@ FAR = [10 ** 59, -(10 ** 59)]
 WHATEVER = NO_NUMBERS + FAR + [
     None, 0, 1, -1, "lasts", "open", [[]], [()], ((),), ([],), ((), ()), ((1,),), ((1, 2),), ((0, ()),), [((0, ()),)],
     (((0, ()),),), [(1, 0, 1)], ((1, 0, 1),), ([1, 0, 1],), ("open", 0), ("open", 0, 1, 2), (0,) * 9999, [0] * 9999,
+    "not", "missed", "unsure", ("not", 0), ("missed", 0, 1, 3), ["not", 0, 1], ("unsure", 0, 1), ("so",),
 ]
 
 
@@ -63,6 +65,12 @@ def plain_holds(one, other):
 
 
 @lru_cache(None)
+def plain_within(tears, torn, cuts):
+    """Point 20: they hold these and have at most so many further cuts."""
+    return spots(torn) >= spots(cuts) and len(spots(torn) - spots(cuts)) <= tears
+
+
+@lru_cache(None)
 def plain_ways(writing, cuts, number):
     return [up for up, read in enumerate(writing[2]) if read == number and plain_holds(up, cuts)]
 
@@ -94,6 +102,15 @@ def is_tuple(thing, length):
 
 def is_int(thing, low, high):
     return type(thing) is int and low <= thing <= high
+
+
+def is_worded(paper, word, length):
+    return is_tuple(paper, length) and type(paper[0]) is str and paper[0] == word
+
+
+def plain_reads(writing, *some):
+    """Whether all of these, whatever they are, are cuts that read a number."""
+    return all(is_int(cuts, 0, 2 ** writing[0] - 1) and writing[2][cuts] is not None for cuts in some)
 
 
 def plain_plan(writing, askings, cuts, turns, paper):
@@ -187,6 +204,55 @@ def small_questions():
             for turns in range(n + 3):
                 yield mixed(n, k, seed), askings, seed % 2 ** n, turns
                 yield mixed(n, k, seed), askings, 0, turns
+
+
+def with_at_each_place(paper, thing):
+    """The paper with the thing put in each of its places in turn, and behind them all."""
+    for at in range(len(paper)):
+        yield paper[:at] + (thing,) + paper[at + 1:]
+    yield paper + (thing,)
+
+
+class PaperCase(unittest.TestCase):
+    """For checkers of papers, which are held against a plain look at the same paper."""
+
+    def agree(self, check, plain, given, papers):
+        """Tells how many of the papers were let by."""
+        granted = 0
+        for paper in papers:
+            before = repr(paper)
+            told = check(*given, paper)
+            self.assertIs(told, plain(*given, paper), (given, before[:300]))
+            self.assertEqual(repr(paper), before)
+            granted += told
+        return granted
+
+    def agree_on_whatever(self, check, plain, given, paper):
+        for thing in WHATEVER:
+            self.agree(check, plain, given, [thing, (thing,), [thing], *with_at_each_place(paper, thing)])
+
+
+class TellingCase(unittest.TestCase):
+    """For what tells one word where something is so, and else a paper that shows it isn't."""
+
+    def tells(self, ask, given, is_so, word, check, plain):
+        told = ask(*given)
+        if is_so:
+            self.assertEqual(repr(told), repr((word,)), given)
+        else:
+            self.assertTrue(plain(*given, told), (given, told))
+        self.assertIs(check(*given, told), not is_so)
+        self.assertEqual(repr(ask(*given)), repr(told))
+
+
+class TimedCase(unittest.TestCase):
+    """For what is promised of eight spots, too."""
+
+    def timed(self, ask, *given):
+        begun = time.process_time()
+        told = ask(*given)
+        self.assertLess(time.process_time() - begun, 2)
+        return told
 
 
 class WritingCase(unittest.TestCase):

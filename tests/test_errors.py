@@ -5,9 +5,11 @@ import unittest
 
 from notchledger import errors
 from notchledger.askings import made_askings
+from notchledger.chains import fewest_sealed, sealed_of
 from notchledger.counting import spots_between
 from notchledger.joined import beside, fewer, later, padded, renamed
 from notchledger.made import copies, crossed, twice, unary, weighed
+from notchledger.tearing import mended
 from notchledger.writings import made_writing
 
 NAMES = (
@@ -49,6 +51,8 @@ RAISED = {
         (renamed, SWITCH, [], []), (spots_between, 10, 1),
     ],
     "NoAskings": [(made_askings, 2, ()), (made_askings, 1, ((), ())), (made_askings, 2, ((0,), (), ()))],
+    "TooMany": [(sealed_of, 1, 2), (sealed_of, 8, 71), (fewest_sealed, 71)],
+    "Unsure": [(mended, SWITCH, 1, 1)],
 }
 
 

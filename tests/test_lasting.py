@@ -1,7 +1,6 @@
 """Points 8 and 11: how long cuts last; and of point 3 that it is told with a paper, and never both."""
 
 import itertools
-import time
 import unittest
 
 from notchledger.askings import any_number, around, by_one, one_up
@@ -10,7 +9,8 @@ from notchledger.lasting import how_long, keep_on, lasting
 from notchledger.plans import right_plan
 from notchledger.writings import made_writing, nearest
 from plain import (
-    full, mixed, mixed_askings, plain_asked, plain_end, plain_lasts, plain_most, plain_plan, plain_ways, spots, sums,
+    TimedCase, full, mixed, mixed_askings, plain_asked, plain_end, plain_lasts, plain_most, plain_plan, plain_ways,
+    spots, sums,
 )
 
 KINDS = (any_number, by_one, around, one_up)
@@ -250,13 +250,7 @@ class WhoeverMadeIt(unittest.TestCase):
                     self.assertEqual((bool(granted), bool(barred)), (lasts, not lasts))
 
 
-class EightSpots(unittest.TestCase):
-    def timed(self, ask, *given):
-        begun = time.process_time()
-        told = ask(*given)
-        self.assertLess(time.process_time() - begun, 2)
-        return told
-
+class EightSpots(TimedCase):
     def check(self, writing, askings, cuts):
         word, paper = self.timed(lasting, writing, askings, cuts, 12)
         self.assertIs(self.timed(right_plan, writing, askings, cuts, 12, paper), word == "lasts")

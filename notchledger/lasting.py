@@ -2,7 +2,7 @@
 
 from notchledger.askings import may_be_asked
 from notchledger.cuts import further, holds
-from notchledger.writings import least_up, reading
+from notchledger.writings import least_up, reading, ways_up
 
 
 def lasting(writing, askings, cuts, turns):
@@ -25,8 +25,7 @@ def how_long(writing, askings, cuts):
 
 def keep_on(writing, askings, cuts, number):
     """The way up to the number that lasts longest, then with the fewest further cuts, then the least; or None."""
-    ways = ways_by_number(writing, cuts)
-    return longest(cuts, ways.get(number, []), most_turns(writing, askings, cuts))
+    return longest(cuts, ways_up(writing, cuts, number), most_turns(writing, askings, cuts))
 
 
 def for_ever(writing):

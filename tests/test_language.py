@@ -18,6 +18,8 @@ BARRED_WORDS = re.compile(
     r"\b(type|typing|typing_extensions|enum|Enum|IntEnum|StrEnum|Flag|IntFlag|Generic|Protocol|ABC|ABCMeta|"
     r"namedtuple|NamedTuple|TypedDict|TYPE_CHECKING|abstractmethod)\b|dataclass|overload|contextmanager"
 )
+# Of the methods of builtin values those that the package calls.
+BUILTIN_METHODS = {"append", "get", "join", "partition", "pop", "split"}
 
 
 def nodes(path, *kinds):
@@ -27,7 +29,8 @@ def nodes(path, *kinds):
 def bound_names(path):
     names = [node.id for node in nodes(path, ast.Name) if not isinstance(node.ctx, ast.Load)]
     names += [node.arg for node in nodes(path, ast.arg)]
-    return names + [node.name for node in nodes(path, ast.FunctionDef, ast.ClassDef)]
+    names += [node.name for node in nodes(path, ast.FunctionDef, ast.ClassDef)]
+    return [name for name in names if name not in ("__init__", "__str__")]
 
 
 def module_names(path):
@@ -89,7 +92,27 @@ class Language(unittest.TestCase):
             for name in bound_names(path):
                 self.assertFalse(hasattr(builtins, name), name)
                 self.assertNotIn(name, imported)
-                self.assertRegex(name, r"\A([A-Za-z][A-Za-z0-9_]*|__[a-z]+__)\Z")
+                self.assertRegex(name, r"\A[A-Za-z][A-Za-z0-9_]*\Z")
+
+    def test_l18_l26_methods_and_attributes(self):
+        classes = [node for path in FILES for node in nodes(path, ast.ClassDef)]
+        methods = [method.name for node in classes for method in node.body if isinstance(method, ast.FunctionDef)]
+        reached = [node for path in FILES for node in nodes(path, ast.Attribute)]
+        attributes = {node.attr for node in reached if isinstance(node.ctx, ast.Store)}
+        self.assertTrue(attributes)
+        self.assertFalse(attributes & set(methods))
+        for worth in ("", 0, [], {}, set(), b""):
+            self.assertFalse(attributes & set(dir(worth)))
+            self.assertLessEqual(set(methods) & set(dir(worth)), {"__init__", "__str__"})
+        for node in reached:
+            self.assertIn(node.attr, attributes | set(methods) | BUILTIN_METHODS)
+
+    def test_l23_iterated_at_once(self):
+        for path in FILES:
+            for node in nodes(path, ast.Assign, ast.Return):
+                if isinstance(node.value, ast.Call):
+                    called = getattr(node.value.func, "id", getattr(node.value.func, "attr", None))
+                    self.assertNotIn(called, ("range", "zip", "enumerate", "reversed", "items", "keys", "values"))
 
     def test_l10_size(self):
         for path in FILES:
